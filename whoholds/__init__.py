@@ -1,0 +1,1 @@
+"""Whoholds: which names may hold which boxes."""
