@@ -7,15 +7,19 @@ HANDED_ON = (
 )
 
 
-def some_programs(many, rows, words="xyz", boxes="bc", slots="st"):
-    """Programs of so many rows of these words, the same ones each time."""
-    state = 7
-
+def drawing(state):
+    """A function that draws one of some things, the same ones each time."""
     def one_of(things):
         nonlocal state
         state = (state * 1103515245 + 12345) % 2 ** 31
         return things[(state >> 16) % len(things)]
 
+    return one_of
+
+
+def some_programs(many, rows, words="xyz", boxes="bc", slots="st"):
+    """Programs of so many rows of these words, the same ones each time."""
+    one_of = drawing(7)
     told = []
     for _ in range(many):
         program = []
@@ -54,6 +58,16 @@ def ladder(many, turned):
     rows = [("new", "n0", "b")]
     for k in range(many):
         rows += [("new", f"h{k}", f"c{k}"), ("put", f"h{k}", "s", f"n{k}"), ("take", f"n{k + 1}", "s", f"h{k}")]
+    return tuple(reversed(rows)) if turned else tuple(rows)
+
+
+def walk(many, around, turned):
+    """Boxes each in a slot of the one ahead, that names in a ring take one out of the other."""
+    rows = []
+    for k in range(many):
+        rows += [("new", f"h{k}", f"b{k:02}"), ("put", f"h{k}", "s", f"h{k + 1}")]
+    rows += [("new", f"h{many}", f"b{many:02}"), ("move", "r0", "h0")]
+    rows += [("take", f"r{(k + 1) % around}", "s", f"r{k}") for k in range(around)]
     return tuple(reversed(rows)) if turned else tuple(rows)
 
 

@@ -49,3 +49,10 @@ def boxes_of(program):
 def slots_of(program):
     """The slots of a program, rising, each once."""
     return sorted({row[2] for row in program if row[0] in ("put", "take")})
+
+
+def renamed(row, told):
+    """The row with told(name) for each name in it."""
+    if row[0] == "new":
+        return ("new", told(row[1]), row[2])
+    return row[:1] + (told(row[1]),) + row[2:-1] + (told(row[-1]),)

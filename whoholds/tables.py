@@ -8,13 +8,16 @@ PLACE_PARTS = {"name": 2, "slot": 3}
 def least(program):
     """The least closed table of a program, with a list for each of its places."""
     table = {place: {} for place in _places(program)}
-    grows = True
-    while grows:
-        grows = False
-        for row in program:
+    readers = _readers(program)
+    due = list(program)
+    while due:
+        grown = {}
+        for row in due:
             for place, boxes in _asks(row, table):
                 if _list_all(table[place], boxes):
-                    grows = True
+                    grown[(place[0], place[-1])] = True
+        # A row asks for more only after what it reads has come to list more.
+        due = list({row: True for part in grown for row in readers.get(part, [])})
     return {place: sorted(listed) for place, listed in table.items()}
 
 
@@ -33,6 +36,27 @@ def is_closed(program, table):
 def _places(program):
     names = [("name", name) for name in names_of(program)]
     return names + [("slot", box, slot) for box in boxes_of(program) for slot in slots_of(program)]
+
+
+def _readers(program):
+    """For each name and slot, ("name", x) or ("slot", s), the rows that read what is listed there."""
+    readers = {}
+    for row in program:
+        for part in _reads(row):
+            readers.setdefault(part, []).append(row)
+    return readers
+
+
+def _reads(row):
+    """The names and the slot that a row reads, as in _readers."""
+    kind, x, y = row[0], ("name", row[1]), ("name", row[-1])
+    if kind == "new":
+        return []
+    if kind == "move":
+        return [y]
+    if kind == "put":
+        return [x, y]
+    return [y, ("slot", row[2])]
 
 
 def _asks(row, table):
